@@ -52,6 +52,7 @@ func wrongCatalogs() [][]Setting {
 		one(strict, func(s *Setting) { s.Default = "true" }),
 		one(level, func(s *Setting) { s.Default = "LOW" }),
 		one(note, func(s *Setting) { s.Default = "a\nb" }),
+		one(note, func(s *Setting) { s.Default = "\nb" }),
 		one(note, func(s *Setting) { s.Default = "a\x00" }),
 		one(note, func(s *Setting) { s.Default = strings.Repeat("x", 61) }),
 	}

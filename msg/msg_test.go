@@ -108,6 +108,8 @@ func TestEncodeErrors(t *testing.T) {
 		{false, Msg{'Q', []string{"a", "b"}, nil}, api.ErrArg},
 		{false, Msg{'Q', []string{"a"}, []int{1}}, api.ErrArg},
 		{false, Msg{'Q', []string{"a\x00"}, nil}, api.ErrArg},
+		{false, Msg{'Q', []string{"\x00a"}, nil}, api.ErrArg},
+		{false, Msg{'D', []string{"\x00"}, []int{1}}, api.ErrArg},
 		{false, Msg{'Q', []string{long}, nil}, api.ErrLong},
 		{false, Msg{'Q', []string{long, ""}, nil}, api.ErrArg},
 		{false, Msg{'Q', []string{long + "\x00"}, nil}, api.ErrArg},

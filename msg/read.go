@@ -46,8 +46,6 @@ func (r *reader) field(kind byte) {
 		r.text()
 	case 'b':
 		r.keep(r.unsigned(1))
-	case 'h':
-		r.short()
 	case 'i':
 		r.long()
 	case 'p':

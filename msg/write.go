@@ -46,8 +46,6 @@ func (w *writer) field(kind byte) {
 		w.text()
 	case 'b':
 		w.number(0, 255, 1)
-	case 'h':
-		w.short()
 	case 'i':
 		w.long()
 	case 'p':

@@ -16,7 +16,7 @@ func takenWords() []string {
 // N1: names.
 func TestGood(t *testing.T) {
 	long := strings.Repeat("a", 63)
-	for _, s := range append(takenWords(), "a", "_", "a1_b", "a.b", "_1._2", "app.to", "set", long, long[:31]+"."+long[:31]) {
+	for _, s := range append(takenWords(), "a", "z", "az", "_", "a09", "a1_b", "a.b", "_1._2", "app.to", "set", long, long[:31]+"."+long[:31]) {
 		if !Good(s) {
 			t.Errorf("not good: %q", s)
 		}

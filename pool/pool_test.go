@@ -177,6 +177,19 @@ func TestIdle(t *testing.T) {
 	state(t, p, "1i, 3l9")
 	check(t, step{p.Tick(), "x 0 1"}, step{p.Tick(), ""})
 	state(t, p, "3l9")
+	q := made(t, Config{Size: 1, Queue: 5})
+	q.Ask(7, nil)
+	q.Opened(1)
+	q.Done(1, nil)
+	for range 100 {
+		check(t, step{q.Tick(), ""})
+	}
+	state(t, q, "1i")
+	one := made(t, Config{Size: 1, Queue: 5, Idle: 1})
+	one.Ask(7, nil)
+	one.Opened(1)
+	one.Done(1, nil)
+	check(t, step{one.Tick(), "x 0 1"})
 }
 
 func TestLife(t *testing.T) {
@@ -207,23 +220,23 @@ func TestPause(t *testing.T) {
 func TestHands(t *testing.T) {
 	c := settings()
 	p, _ := New(c, Config{Size: 2, Queue: 5})
-	c[1].Default, c[0].Type.Names[0] = "7", "other"
+	c[1].Name, c[0].Type.Names[0] = "other", "other"
 	l := mem("7")
 	p.Ask(1, nil)
 	p.Ask(2, nil)
 	p.Opened(1)
 	p.Opened(2)
-	p.Done(1, l)
-	p.Done(2, mem("8"))
+	p.Done(2, l)
+	p.Done(1, mem("8"))
 	l[0].Value = "8"
-	p.Conns()[0].Vars[0].Value = "8"
+	p.Conns()[1].Vars[0].Value = "8"
 	p.Pause(true)
 	want := mem("7")
 	p.Ask(3, want)
 	want[0].Value = "8"
 	p.Waiting()[0] = 99
-	check(t, step{p.Pause(false), "l 3 1"})
-	if got := p.Conns(); !reflect.DeepEqual(got[1], Conn{Id: 2, State: 'i', Vars: mem("8")}) || got[0].Id != 1 || got[0].State != 'l' || got[0].Client != 3 || len(got[0].Vars) != 0 {
+	check(t, step{p.Pause(false), "l 3 2"})
+	if got := p.Conns(); !reflect.DeepEqual(got[0], Conn{Id: 1, State: 'i', Vars: mem("8")}) || got[1].Id != 2 || got[1].State != 'l' || got[1].Client != 3 || len(got[1].Vars) != 0 {
 		t.Error(got)
 	}
 }

@@ -412,15 +412,28 @@ func TestMayNotCome(t *testing.T) {
 	} {
 		s := stages()[n]
 		for _, w := range append(wrong, rubbish...) {
-			b := at(t, s)
-			b.want(b.FromServer(0, 1, w+hello(1)), "x1"+s.after)
-			b.session(1, s.then)
-			b.want(b.FromServer(0, 1, hello(1)), "")
-			b.want(b.Drop(0, 1), "")
+			for _, behind := range []string{"", hello(1)} {
+				b := at(t, s)
+				b.want(b.FromServer(0, 1, w+behind), "x1"+s.after)
+				b.session(1, s.then)
+				b.want(b.FromServer(0, 1, hello(1)), "")
+				b.want(b.Drop(0, 1), "")
+			}
 			if t.Failed() {
 				t.Fatalf("%s: %q", s.name, w)
 			}
 		}
+	}
+}
+
+// X3: nothing may come to a connection that nobody was leased yet.
+func TestNeverLeased(t *testing.T) {
+	for _, w := range []string{zi, wired(true, 'R', nil, 0), wired(true, 'K', nil, 1, 1), tag("x")} {
+		b := at(t, stages()[0])
+		b.want(b.Gone(1), "")
+		b.want(b.FromServer(0, 1, hello(1)), "")
+		b.want(b.FromServer(0, 1, report("a", "b")), "")
+		b.want(b.FromServer(0, 1, w), "x1")
 	}
 }
 

@@ -180,6 +180,7 @@ func TestWrong(t *testing.T) {
 	runs(t, "setting mem: int 0 9 = '10'", "", "tenant u d - 1 5 0 0 0", "wrong", "open", "error 1")
 	runs(t, "setting", "", "tenant u d - 1 5 0 0 0", "wrong")
 	runs(t, mem, "", mem, "", "tenant u d - 1 5 0 0 0", "wrong")
+	runs(t, "tenant u d - 1 1 0 0 0", "ok", "tenant u e - 1 1 0 0 0", "ok", "open", "ok", "tenant u d x 1 1 0 0 0", "ok", "open", "error 1")
 	runs(t, "tenant u d - 9999 0 0 0 0", "ok", "tenant u d - 1 1 0 0 0", "ok", "open", "error 1")
 }
 
