@@ -47,6 +47,11 @@ type client struct {
 	owed bool // it is to be told that
 }
 
+// newcomer is a client that was told nothing yet.
+func newcomer(id int) *client {
+	return &client{id: id, front: front.New(), session: frames.New()}
+}
+
 // goOn puts a client behind the row.
 func (p *Proxy) goOn(c *client) { p.row = append(p.row, c) }
 

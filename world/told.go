@@ -48,24 +48,24 @@ func (w *World) place(o proxy.Out) int {
 }
 
 // Told is what a client was told.
-func (w *World) Told(id int) string {
-	if c := w.clients[id]; c != nil {
+func (w *World) Told(client int) string {
+	if c := w.clients[client]; c != nil {
 		return c.told.String()
 	}
 	return ""
 }
 
 // Own is what its own database told.
-func (w *World) Own(id int) string {
-	if c := w.clients[id]; c != nil {
+func (w *World) Own(client int) string {
+	if c := w.clients[client]; c != nil {
 		return c.ownTold.String()
 	}
 	return ""
 }
 
 // Refused tells whether a client was refused something.
-func (w *World) Refused(id int) bool {
-	for m := range messages(w.Told(id)) {
+func (w *World) Refused(client int) bool {
+	for m := range messages(w.Told(client)) {
 		if m.Kind == 'E' && refusal(m) {
 			return true
 		}
