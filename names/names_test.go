@@ -88,6 +88,9 @@ func TestTake(t *testing.T) {
 		{"a.5", "a", 1},
 		{".a", "", 0},
 		{"5", "", 0},
+		{"1e", "", 0},
+		{"1e.x", "", 0},
+		{"a.1e", "a", 1},
 		{"'a'", "", 0},
 		{"= a", "", 0},
 		{"a$", "", 0},
@@ -104,6 +107,10 @@ func TestTake(t *testing.T) {
 		if name, n := Take(l); name != c.name || n != c.n {
 			t.Errorf("Take(%q) = %q, %d", c.s, name, n)
 		}
+	}
+	behind, _ := scan.Scan("1e.x")
+	if name, n := Take(behind[1:]); name != "e.x" || n != 3 {
+		t.Error("an e behind a number is a word of its own", name, n)
 	}
 	short := []scan.Token{{Kind: scan.Word, Text: "a"}, {Kind: scan.Sign, Text: "."}, {Kind: scan.Word, Text: "b"}}
 	if name, n := Take(short[:2]); name != "a" || n != 1 {

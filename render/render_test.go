@@ -30,6 +30,8 @@ func TestStatement(t *testing.T) {
 		cmd(parse.Set, "app.to", "it's"):       `SET app."to" TO 'it''s'`,
 		cmd(parse.Set, "session", "default"):   `SET "session" TO 'default'`,
 		cmd(parse.Set, "local", ""):            `SET "local" TO ''`,
+		cmd(parse.Set, "mem", "1e"):            "SET mem TO '1e'",
+		cmd(parse.Set, "mem", "-1e+5"):         "SET mem TO '-1e+5'",
 		cmd(parse.Set, "local.x", `\`):         `SET "local".x TO '\'`,
 		cmd(parse.Set, name, long):             "SET " + name + " TO '" + long + long + "'",
 		cmd(parse.SetLocal, "mem", "a\nb"):     "SET LOCAL mem TO 'a\nb'",

@@ -143,15 +143,27 @@ func (c *cursor) number() string {
 		switch {
 		case digit(b), b == '.':
 			c.at++
-		case b == 'e', b == 'E':
-			c.at++
-			if (c.peek(0) == '+' || c.peek(0) == '-') && digit(c.peek(1)) {
-				c.at++
-			}
+		case c.exponent() > 0:
+			c.at += c.exponent()
 		default:
 			return c.s[from:c.at]
 		}
 	}
+}
+
+// exponent is how many bytes an e and its sign are; 0, if no digit is behind: then the e begins a token of its own.
+func (c *cursor) exponent() int {
+	if c.peek(0) != 'e' && c.peek(0) != 'E' {
+		return 0
+	}
+	n := 1
+	if c.peek(n) == '+' || c.peek(n) == '-' {
+		n++
+	}
+	if !digit(c.peek(n)) {
+		return 0
+	}
+	return n
 }
 
 // quoted goes on behind what stands between two marks, and tells what that says.

@@ -85,8 +85,30 @@ func TestTokens(t *testing.T) {
 		{"1e5", []Token{n("1e5")}},
 		{"1E+5", []Token{n("1E+5")}},
 		{"1e-5e+6", []Token{n("1e-5e+6")}},
-		{"1e+", []Token{n("1e"), o("+")}},
-		{"1e- 5", []Token{n("1e"), o("-"), n("5")}},
+		{"1 1.5 .5 1e5 1E-5 1e+ 1..2", []Token{n("1"), n("1.5"), n(".5"), n("1e5"), n("1E-5"), n("1"), w("e"), o("+"), n("1..2")}},
+		{"1e", []Token{n("1"), w("e")}},
+		{"1E", []Token{n("1"), w("e")}},
+		{".5e", []Token{n(".5"), w("e")}},
+		{"1.e5", []Token{n("1.e5")}},
+		{"1e5.5", []Token{n("1e5.5")}},
+		{"1e;", []Token{n("1"), w("e"), o(";")}},
+		{"1e 5", []Token{n("1"), w("e"), n("5")}},
+		{"1ee5", []Token{n("1"), w("ee5")}},
+		{"1e5e", []Token{n("1e5"), w("e")}},
+		{"1e5E-", []Token{n("1e5"), w("e"), o("-")}},
+		{"1ex5", []Token{n("1"), w("ex5")}},
+		{"1e_5", []Token{n("1"), w("e_5")}},
+		{"1e.", []Token{n("1"), w("e"), o(".")}},
+		{"1e.5", []Token{n("1"), w("e"), n(".5")}},
+		{"1e+", []Token{n("1"), w("e"), o("+")}},
+		{"1e-", []Token{n("1"), w("e"), o("-")}},
+		{"1e- 5", []Token{n("1"), w("e"), o("-"), n("5")}},
+		{"1e+-5", []Token{n("1"), w("e"), o("+"), o("-"), n("5")}},
+		{"1e-.5", []Token{n("1"), w("e"), o("-"), n(".5")}},
+		{"1e--5", []Token{n("1"), w("e")}},
+		{`1e'a\'b'`, []Token{n("1"), tx("a'b")}},
+		{`1e"a"`, []Token{n("1"), w("e"), q("a")}},
+		{"1e$$a$$", []Token{n("1"), w("e$$a$$")}},
 		{"1+5", []Token{n("1"), o("+"), n("5")}},
 		{"-5", []Token{o("-"), n("5")}},
 		{"a;b", []Token{w("a"), o(";"), w("b")}},
@@ -104,6 +126,10 @@ func TestPlaces(t *testing.T) {
 	want := []Token{{Word, "ab", 1, 3}, {Text, "c'", 4, 9}, {Text, "\n", 9, 14}, {Name, "d", 14, 17}, {Text, "x", 22, 27}, {Number, "1.5", 28, 31}, {Sign, ",", 31, 32}}
 	l, e := Scan(` AB 'c'''e'\n'"d"/**/ $$x$$ 1.5,`)
 	if e != api.OK || !slices.Equal(l, want) {
+		t.Error(l, e)
+	}
+	want = []Token{{Number, "1", 0, 1}, {Word, "e", 1, 2}, {Sign, "+", 2, 3}, {Number, "1E-5", 4, 8}}
+	if l, e := Scan("1E+ 1E-5"); e != api.OK || !slices.Equal(l, want) {
 		t.Error(l, e)
 	}
 }

@@ -31,6 +31,7 @@ func TestSplit(t *testing.T) {
 		{";a;", []string{"a"}},
 		{"select ';' ; set \";\" /*;*/ = $$;$$ -- ;\n;x", []string{"select ';'", "set \";\" /*;*/ = $$;$$", "x"}},
 		{"';';", []string{"';'"}},
+		{"1e;1e+;1e+5", []string{"1e", "1e+", "1e+5"}},
 	} {
 		l, e := Split(c.s)
 		if e != api.OK || !slices.Equal(texts(c.s, l), c.l) {
@@ -52,6 +53,11 @@ func TestSplitTokens(t *testing.T) {
 	want := []scan.Token{{Kind: scan.Word, Text: "b", From: 3, To: 4}, {Kind: scan.Number, Text: "1", From: 5, To: 6}}
 	if !slices.Equal(l[1].Tokens, want) {
 		t.Error(l[1])
+	}
+	st, ok, e := One("1e;")
+	apart := []scan.Token{{Kind: scan.Number, Text: "1", From: 0, To: 1}, {Kind: scan.Word, Text: "e", From: 1, To: 2}}
+	if !ok || e != api.OK || !slices.Equal(st.Tokens, apart) {
+		t.Error("an e without a digit behind is no part of a number", st, ok, e)
 	}
 	_ = append(l[0].Tokens, scan.Token{Text: "other"})
 	l[0].Tokens[0].Text = "other"
